@@ -1,0 +1,67 @@
+"""The interface: names, arguments and defaults as the document lists them."""
+
+import inspect
+import unittest
+
+from yarnback import spans, weights
+
+FUNCTIONS = {
+    weights.read_weight: "(text)",
+    spans.weighed: "(drams, slack=0)",
+    spans.yarn_in: "(cloth, oil=None)",
+}
+
+METHODS = {
+    weights.Weight: {
+        "__init__": "(self, pounds=0, ounces=0, drams=0)",
+        "plus": "(self, other)",
+        "less": "(self, other)",
+        "times": "(self, many=2)",
+        "__eq__": "(self, other)",
+        "__str__": "(self)",
+        "__repr__": "(self)",
+    },
+    spans.Span: {
+        "__init__": "(self, least, most=None)",
+        "holds": "(self, number)",
+        "plus": "(self, other)",
+        "widened": "(self, by=1)",
+        "meet": "(self, other)",
+        "__eq__": "(self, other)",
+        "__len__": "(self)",
+        "__str__": "(self)",
+        "__repr__": "(self)",
+    },
+}
+
+FILES = {
+    "yarnback.weights": (weights.Weight, weights.read_weight),
+    "yarnback.spans": (spans.Span, spans.weighed, spans.yarn_in),
+}
+
+
+class InterfaceTest(unittest.TestCase):
+    def test_functions(self):
+        for function, told in FUNCTIONS.items():
+            with self.subTest(function=function.__name__):
+                self.assertEqual(str(inspect.signature(function)), told)
+
+    def test_methods_stand_in_the_class_itself(self):
+        for owner, methods in METHODS.items():
+            for name, told in methods.items():
+                with self.subTest(owner=owner.__name__, name=name):
+                    self.assertEqual(str(inspect.signature(vars(owner)[name])), told)
+
+    def test_each_is_defined_in_its_file(self):
+        for name, things in FILES.items():
+            for thing in things:
+                with self.subTest(thing=thing.__name__):
+                    self.assertEqual(thing.__module__, name)
+
+    def test_values_are_set_when_the_object_is_created(self):
+        self.assertEqual(vars(weights.Weight(1)), {"drams": 256})
+        self.assertEqual(vars(spans.Span(1)), {"least": 1, "most": 1})
+
+
+if __name__ == "__main__":
+    unittest.main()

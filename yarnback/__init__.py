@@ -1,0 +1,1 @@
+"""Yarnback: yarn given out to homes and taken in as cloth."""
