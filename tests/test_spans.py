@@ -67,7 +67,7 @@ class EqualTest(unittest.TestCase):
         self.assertTrue(Span(GREAT, THIRTY_FIGURES) == Span(GREAT, THIRTY_FIGURES))
 
     def test_not_equal_if_one_number_is_other(self):
-        for least, most in ((3, 6), (4, 5), (3, 3), (5, 5), (2, 6)):
+        for least, most in ((3, 6), (3, 4), (2, 5), (4, 5), (3, 3), (5, 5), (2, 6)):
             with self.subTest(least=least, most=most):
                 self.assertFalse(Span(3, 5) == Span(least, most))
                 self.assertTrue(Span(3, 5) != Span(least, most))

@@ -206,6 +206,7 @@ class UnreadTest(unittest.TestCase):
         self.check_unread(["+2 lb", "-2 lb", "2.0 lb", "2,000 lb", "2_0 lb", "1e2 lb", "0x2 lb", "two lb", "?"])
         self.check_unread(["2 LB", "2 Lb", "2 lbs", "2 l", "2 pounds", "2 lb, 3 oz", "2 lb.", "2 oz;", "2 ozdr"])
         self.check_unread(["-1 lb", "-0 dr", "1/2 lb", "2 lb and 3 oz", "(2 lb)", "Weight(drams=37)", "2 lb - 1 oz"])
+        self.check_unread(["\u00b2 lb", "\u0662 lb", "2\u00a0lb"])
 
     def test_parts_without_a_number_or_a_unit(self):
         self.check_unread(["", " ", "  ", "\n", "2", "0", "lb", "dr", "lb 2", "2 lb 3", "2 lb oz", "2 3 lb", "0 dr 0"])
