@@ -3,12 +3,15 @@
 import inspect
 import unittest
 
-from yarnback import spans, weights
+from yarnback import papers, sheets, spans, tales, weights
 
 FUNCTIONS = {
     weights.read_weight: "(text)",
     spans.weighed: "(drams, slack=0)",
     spans.yarn_in: "(cloth, oil=None)",
+    tales.fault_of: "(sheet, tale)",
+    tales.lack_in: "(tale, home)",
+    papers.bars: "(sheet, paper, fair=None)",
 }
 
 METHODS = {
@@ -32,11 +35,24 @@ METHODS = {
         "__str__": "(self)",
         "__repr__": "(self)",
     },
+    sheets.Sheet: {
+        "__init__": "(self, gives=None, pieces=None)",
+        "homes": "(self)",
+        "pieces": "(self)",
+        "got": "(self, home)",
+        "waste": "(self, home)",
+        "yarn": "(self, piece)",
+        "makers": "(self, piece)",
+        "made_by": "(self, home)",
+    },
 }
 
 FILES = {
     "yarnback.weights": (weights.Weight, weights.read_weight),
     "yarnback.spans": (spans.Span, spans.weighed, spans.yarn_in),
+    "yarnback.sheets": (sheets.Sheet,),
+    "yarnback.tales": (tales.fault_of, tales.lack_in),
+    "yarnback.papers": (papers.bars,),
 }
 
 
