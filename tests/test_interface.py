@@ -3,7 +3,7 @@
 import inspect
 import unittest
 
-from yarnback import papers, sheets, spans, tales, weights
+from yarnback import fitting, lacks, papers, shares, sheets, spans, tales, weighings, weights
 
 FUNCTIONS = {
     weights.read_weight: "(text)",
@@ -12,6 +12,18 @@ FUNCTIONS = {
     tales.fault_of: "(sheet, tale)",
     tales.lack_in: "(tale, home)",
     papers.bars: "(sheet, paper, fair=None)",
+    fitting.tale_of: "(sheet, fair=None)",
+    lacks.lack_of: "(sheet, home)",
+    lacks.verdict: "(sheet, home)",
+    lacks.tale_with: "(sheet, home, lack)",
+    shares.share_of: "(sheet, piece, home)",
+    shares.split: "(pence, weights)",
+    shares.pay_of: "(sheet, piece, pence)",
+    weighings.things_of: "(sheet)",
+    weighings.do_show: "(sheet, things)",
+    weighings.cheapest: "(sheet, price=None)",
+    weighings.lets_by: "(sheet, things, paper, price=None)",
+    weighings.worked_out: "(sheet, got, yarn, shown)",
 }
 
 METHODS = {
@@ -53,6 +65,11 @@ FILES = {
     "yarnback.sheets": (sheets.Sheet,),
     "yarnback.tales": (tales.fault_of, tales.lack_in),
     "yarnback.papers": (papers.bars,),
+    "yarnback.fitting": (fitting.tale_of,),
+    "yarnback.lacks": (lacks.lack_of, lacks.verdict, lacks.tale_with),
+    "yarnback.shares": (shares.share_of, shares.split, shares.pay_of),
+    "yarnback.weighings": (weighings.things_of, weighings.do_show, weighings.cheapest, weighings.lets_by,
+                           weighings.worked_out),
 }
 
 

@@ -169,6 +169,11 @@ class AskedTest(unittest.TestCase):
         self.assertIs(bars(fair=["ann"], paper=("over", ("ann",)), sheet=shop(shawl=(0, 9))), True)
         self.assertIs(bars(paper=("short", ("shawl",)), sheet=shop(shawl=(20, 20))), True)
 
+    def test_other_words_bar_nothing(self):
+        sheet = shop(shawl=(99, 99), rug=(0, 0))
+        for names in (("shawl",), ("cleo",)):
+            self.assertIs(bars(sheet, ("other", names), ["cleo"]), False)
+
     def test_a_home_and_a_piece_of_one_name(self):
         sheet = Sheet([("rug", Span(4), 0), ("ann", Span(1), 0)], [("ann", Span(5), ["rug"]), ("rug", Span(1), ["ann"])])
         self.assertIs(bars(sheet, ("short", ("ann",))), True)

@@ -28,8 +28,9 @@ def sample():
 
 
 def all_told(sheet):
-    homes = [(home, repr(sheet.got(home)), sheet.waste(home), sheet.made_by(home)) for home in sheet.homes()]
-    pieces = [(piece, repr(sheet.yarn(piece)), sheet.makers(piece)) for piece in sheet.pieces()]
+    """All that the sheet tells, as texts, which nothing can change."""
+    homes = [(home, repr(sheet.got(home)), sheet.waste(home), repr(sheet.made_by(home))) for home in sheet.homes()]
+    pieces = [(piece, repr(sheet.yarn(piece)), repr(sheet.makers(piece))) for piece in sheet.pieces()]
     return homes, pieces
 
 

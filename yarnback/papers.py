@@ -6,9 +6,7 @@ def bars(sheet, paper, fair=None):
     word, names = paper
     if word == "short":
         return rise_in(names, sheet.pieces()) and want_more(sheet, names)
-    if word == "over":
-        return rise_in(names, fair or ()) and put_more(sheet, names)
-    return False
+    return word == "over" and rise_in(names, fair or ()) and put_more(sheet, names)
 
 
 def must_put(sheet, home):
