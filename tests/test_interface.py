@@ -3,7 +3,8 @@
 import inspect
 import unittest
 
-from yarnback import fitting, lacks, papers, shares, sheets, spans, tales, weighings, weights
+from yarnback import (bolts, fitting, lacks, money, papers, shares, sheets, spans, tales, weaving, weighings,
+                      weights)
 
 FUNCTIONS = {
     weights.read_weight: "(text)",
@@ -24,6 +25,9 @@ FUNCTIONS = {
     weighings.cheapest: "(sheet, price=None)",
     weighings.lets_by: "(sheet, things, paper, price=None)",
     weighings.worked_out: "(sheet, got, yarn, shown)",
+    weaving.maker_at: "(weaving, ell)",
+    weaving.blame_of: "(weavings, bolt, ells)",
+    money.read_money: "(text)",
 }
 
 METHODS = {
@@ -57,6 +61,26 @@ METHODS = {
         "makers": "(self, piece)",
         "made_by": "(self, home)",
     },
+    bolts.Bolt: {
+        "__init__": "(self, runs=None)",
+        "runs": "(self)",
+        "spot": "(self, ell)",
+        "cut": "(self, at)",
+        "joined": "(self, other, turned=False)",
+        "turned": "(self)",
+        "__eq__": "(self, other)",
+        "__len__": "(self)",
+        "__str__": "(self)",
+    },
+    money.Money: {
+        "__init__": "(self, pence=0, shillings=0, pounds=0)",
+        "plus": "(self, other)",
+        "less": "(self, other)",
+        "times": "(self, many=2)",
+        "__eq__": "(self, other)",
+        "__str__": "(self)",
+        "__repr__": "(self)",
+    },
 }
 
 FILES = {
@@ -70,6 +94,9 @@ FILES = {
     "yarnback.shares": (shares.share_of, shares.split, shares.pay_of),
     "yarnback.weighings": (weighings.things_of, weighings.do_show, weighings.cheapest, weighings.lets_by,
                            weighings.worked_out),
+    "yarnback.bolts": (bolts.Bolt,),
+    "yarnback.weaving": (weaving.maker_at, weaving.blame_of),
+    "yarnback.money": (money.Money, money.read_money),
 }
 
 
@@ -94,6 +121,7 @@ class InterfaceTest(unittest.TestCase):
     def test_values_are_set_when_the_object_is_created(self):
         self.assertEqual(vars(weights.Weight(1)), {"drams": 256})
         self.assertEqual(vars(spans.Span(1)), {"least": 1, "most": 1})
+        self.assertEqual(vars(money.Money(1, 1)), {"pence": 13})
 
 
 if __name__ == "__main__":

@@ -1,7 +1,7 @@
 """Weights in pounds, ounces and drams."""
 
 from yarnback.errors import Short, Unread
-from yarnback.figures import are_figures
+from yarnback.figures import are_figures, parts_in
 
 DRAMS_IN = {"lb": 256, "oz": 16, "dr": 1}
 MOST_FIGURES = 12
@@ -39,13 +39,7 @@ class Weight:
 
 def written_parts(drams):
     """The parts that are not 0, each with its unit; of nothing `0 dr`."""
-    parts = []
-    left = drams
-    for unit, worth in DRAMS_IN.items():
-        many, left = divmod(left, worth)
-        if many > 0:
-            parts.append(f"{many} {unit}")
-    return parts or ["0 dr"]
+    return [f"{many} {unit}" for many, unit in parts_in(drams, DRAMS_IN)] or ["0 dr"]
 
 
 def read_weight(text):
