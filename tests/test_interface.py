@@ -3,8 +3,8 @@
 import inspect
 import unittest
 
-from yarnback import (bolts, fitting, lacks, money, papers, shares, sheets, spans, tales, weaving, weighings,
-                      weights)
+from yarnback import (bolts, book, desk, fitting, lacks, logs, money, papers, rows, shares, sheets, spans, tales, weaving,
+                      weighings, weights)
 
 FUNCTIONS = {
     weights.read_weight: "(text)",
@@ -28,6 +28,10 @@ FUNCTIONS = {
     weaving.maker_at: "(weaving, ell)",
     weaving.blame_of: "(weavings, bolt, ells)",
     money.read_money: "(text)",
+    rows.show_record: "(record)",
+    rows.read_record: "(text)",
+    logs.show_book: "(book)",
+    logs.read_book: "(text, price=1)",
 }
 
 METHODS = {
@@ -81,6 +85,28 @@ METHODS = {
         "__str__": "(self)",
         "__repr__": "(self)",
     },
+    book.Book: {
+        "__init__": "(self, price=1)",
+        "__len__": "(self)",
+        "give": "(self, lot, home, drams, day, slack=0, waste=0)",
+        "take": "(self, lot, piece, drams, weaving, day, slack=0, oil=None)",
+        "sew": "(self, bolt, other, day, hour=0, turned=False)",
+        "cut": "(self, bolt, at, rest, day, hour=0)",
+        "fault": "(self, bolt, ell, pence, day, hour=0)",
+        "pay": "(self, piece, pence, day)",
+        "advance": "(self, home, pence, day)",
+        "drop": "(self, number)",
+        "records": "(self)",
+        "sheet": "(self, lot, day=None)",
+        "bolts": "(self, day=None, hour=None)",
+        "blame": "(self, day=None)",
+        "account": "(self, home, day=None)",
+        "accounts": "(self, day=None)",
+    },
+    desk.Desk: {
+        "__init__": "(self, price=1)",
+        "say": "(self, row)",
+    },
 }
 
 FILES = {
@@ -97,6 +123,10 @@ FILES = {
     "yarnback.bolts": (bolts.Bolt,),
     "yarnback.weaving": (weaving.maker_at, weaving.blame_of),
     "yarnback.money": (money.Money, money.read_money),
+    "yarnback.book": (book.Book,),
+    "yarnback.rows": (rows.show_record, rows.read_record),
+    "yarnback.logs": (logs.show_book, logs.read_book),
+    "yarnback.desk": (desk.Desk,),
 }
 
 

@@ -1,6 +1,6 @@
 """Yarn as it flows: from outside to homes, from these into pieces, and out again with the cloth."""
 
-from yarnback.nets import Net, settle, span_at
+from yarnback.nets import Net, least_at, most_at, settle
 from yarnback.spans import Span
 
 OUTSIDE = 0
@@ -51,10 +51,18 @@ class Flow:
         """What the home puts into this piece."""
         return self.net.carried[self.share_arcs[(piece, home)]]
 
-    def put_span(self, home):
-        """All that the home can put into its pieces."""
-        return span_at(self.net, self.put_arcs[home])
+    def least_put(self, home):
+        """The least that the home can put into its pieces."""
+        return least_at(self.net, self.put_arcs[home])
 
-    def share_span(self, piece, home):
-        """All that the home can put into this piece."""
-        return span_at(self.net, self.share_arcs[(piece, home)])
+    def most_put(self, home):
+        """The most that the home can put into its pieces."""
+        return most_at(self.net, self.put_arcs[home])
+
+    def least_share(self, piece, home):
+        """The least that the home can put into this piece."""
+        return least_at(self.net, self.share_arcs[(piece, home)])
+
+    def most_share(self, piece, home):
+        """The most that the home can put into this piece."""
+        return most_at(self.net, self.share_arcs[(piece, home)])

@@ -8,9 +8,14 @@ from yarnback.spans import Span
 def lack_of(sheet, home):
     """The span of what the home lacks in all tales that fit."""
     got = sheet.got(home)
-    put = fitting_flow(sheet).put_span(home)
-    # The least is lacking where it got the least and put in the most, or got all that it put in.
-    return Span(max(0, got.least - put.most), got.most - put.least)
+    flow = fitting_flow(sheet)
+    return Span(least_lack(sheet, flow, home), got.most - flow.least_put(home))
+
+
+def least_lack(sheet, flow, home):
+    """The least that the home lacks, by a flow of some tale of the sheet."""
+    # It is lacking where the home got the least and put in the most, or got all that it put in.
+    return max(0, sheet.got(home).least - flow.most_put(home))
 
 
 def verdict(sheet, home):

@@ -1,7 +1,5 @@
 """Nets: nodes, and arcs between them that carry something round."""
 
-from yarnback.spans import Span
-
 
 class Net:
     """Nodes by numbers from 0 on, and arcs with a span of what each may carry.
@@ -43,14 +41,14 @@ class Net:
         self.carried[arc] += many if self.tails[arc] == node else -many
 
 
-def ways_from(net, start, barred):
+def ways_from(net, start, barred, end=None):
     """Of each node to which more can go from the start, not over the barred arc: the last arc of a shortest way.
 
-    The start itself has None.
+    The start itself has None. Nodes that are further off than the end, where one is told, may be left out.
     """
     ways = {start: None}
     front = [start]
-    while front:
+    while front and end not in ways:
         later = []
         for node in front:
             for arc in net.arcs_at[node]:
@@ -81,7 +79,7 @@ def turn_round(net, arc, node, most):
     far = net.far_end(arc, node)
     left = most
     while left > 0:
-        ways = ways_from(net, far, arc)
+        ways = ways_from(net, far, arc, node)
         if node not in ways:
             break
         way = way_to(net, ways, node)
@@ -105,11 +103,15 @@ def settle(net):
     return None
 
 
-def span_at(net, arc):
-    """The span of all that the arc can carry; the net is a settled one."""
+def most_at(net, arc):
+    """The most that the arc can carry; the net is a settled one, and then carries so."""
     tail = net.tails[arc]
-    head = net.heads[arc]
     turn_round(net, arc, tail, net.room(arc, tail))
-    most = net.carried[arc]
+    return net.carried[arc]
+
+
+def least_at(net, arc):
+    """The least that the arc can carry; the net is a settled one, and then carries so."""
+    head = net.heads[arc]
     turn_round(net, arc, head, net.room(arc, head))
-    return Span(net.carried[arc], most)
+    return net.carried[arc]

@@ -2,13 +2,15 @@
 
 from yarnback.errors import NoMaker, NothingMade
 from yarnback.fitting import fitting_flow
+from yarnback.spans import Span
 
 
 def share_of(sheet, piece, home):
     """The span of what the home put into the piece in all tales that fit."""
     if home not in sheet.makers(piece):
         raise NoMaker(piece, home)
-    return fitting_flow(sheet).share_span(piece, home)
+    flow = fitting_flow(sheet)
+    return Span(flow.least_share(piece, home), flow.most_share(piece, home))
 
 
 def split(pence, weights):
@@ -32,7 +34,11 @@ def split_by_nothing(pence, weights):
 
 def pay_of(sheet, piece, pence):
     """What each maker of the piece gets of its pay, by what it could have put in."""
+    # What is no piece is refused ahead of what doesn't fit.
     makers = sheet.makers(piece)
-    flow = fitting_flow(sheet)
-    weights = [flow.share_span(piece, home).most for home in makers]
-    return list(zip(makers, split(pence, weights)))
+    return list(zip(makers, split(pence, weights_by(sheet, fitting_flow(sheet), piece))))
+
+
+def weights_by(sheet, flow, piece):
+    """What each maker could have put into the piece at most, by a flow of some tale of the sheet."""
+    return [flow.most_share(piece, home) for home in sheet.makers(piece)]
