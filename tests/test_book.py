@@ -254,6 +254,8 @@ class NoNumberTest(RefusedTest):
         for weaving in ((("ann", 0),), (("ann", 1), ("bob", 0)), (("ann", 0), ("bob", 1)), (("ann", -1), ("bob", 5))):
             with self.subTest(weaving=weaving):
                 self.check(NoNumber, {}, book, "take", "red", "cap", 1, weaving, 2)
+        for ells in (True, 1.5, "1", None):
+            self.check(NoNumber, {}, book, "take", "red", "cap", 1, (("bob", 2), ("ann", ells)), 2)
         book.take("red", "cap", 1, (("ann", 1),), 2)
 
     def test_oil_that_comes_to_no_yarn(self):
@@ -421,7 +423,8 @@ class BrokenTest(RefusedTest):
         book = small_book()
         book.cut("rug", 4, "end", 3, 4)
         for bolt, ell, day, hour in (("none", 0, 9, 0), ("rug", 4, 3, 4), ("rug", 4, 9, 0), ("rug", 6, 3, 3),
-                                     ("end", 0, 3, 3), ("end", 2, 3, 4), ("rug", 0, 1, 99), ("hat", 3, 2, 0)):
+                                     ("end", 0, 3, 3), ("end", 2, 3, 4), ("rug", 0, 1, 99), ("hat", 3, 2, 0),
+                                     ("hat", -1, 9, 0)):
             with self.subTest(bolt=bolt, ell=ell, day=day, hour=hour):
                 self.check_broken(("fault", bolt, ell, 1, day, hour), book, "fault", bolt, ell, 1, day, hour)
         book.fault("rug", 5, 1, 3, 3)

@@ -55,11 +55,9 @@ class Book:
         return line.number
 
     def keep(self, record):
-        """The same, but whether all records can be isn't looked at yet: others may come that it needs."""
-        line = self._checked(record)
-        self._lines = in_order(self._lines + [line])
+        """Tells a record, too, but whether all of them can be isn't looked at yet: others may come that it needs."""
+        self._lines = in_order(self._lines + [self._checked(record)])
         self._told += 1
-        return line.number
 
     def broken_number(self):
         """The number of the first record that can't be, None where all can."""

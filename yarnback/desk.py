@@ -47,10 +47,11 @@ def told_bolt(book, names, day):
 
 def told_tale(book, names, day):
     """Whether a tale fits the lot, or the paper that shows that none does."""
-    word, told = tale_of(book.sheet(names[0], day))
-    if word == "tale":
+    kind, told = tale_of(book.sheet(names[0], day))
+    if kind == "tale":
         return "fits"
-    return " ".join([told[0], *told[1]])
+    word, pieces = told
+    return " ".join([word, *pieces])
 
 
 ASKS = {

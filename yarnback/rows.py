@@ -32,7 +32,8 @@ def show_thing(field, thing):
     if field == "oil":
         return str(thing.least) if thing.least == thing.most else f"{thing.least}-{thing.most}"
     if field == "turned":
-        return "yes" if thing else "no"
+        # Where it isn't turned this isn't written.
+        return "yes"
     return str(thing)
 
 
