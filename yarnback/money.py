@@ -37,7 +37,7 @@ class Money:
 
 def written_parts(pence):
     """The parts that are not 0, each with its unit, below 0 with a `-` ahead; of nothing `0d`."""
-    parts = [f"{many}{unit}" for many, unit in parts_in(abs(pence), PENCE_IN)] or ["0d"]
+    parts = [f"{many}{unit}" for many, unit in parts_in(abs(pence), dict(PENCE_IN))] or ["0d"]
     if pence < 0:
         parts[0] = f"-{parts[0]}"
     return parts
