@@ -39,7 +39,7 @@ class Weight:
 
 def written_parts(drams):
     """The parts that are not 0, each with its unit; of nothing `0 dr`."""
-    return [f"{many} {unit}" for many, unit in parts_in(drams, DRAMS_IN)] or ["0 dr"]
+    return [f"{many} {unit}" for many, unit in parts_in(drams, dict(DRAMS_IN))] or ["0 dr"]
 
 
 def read_weight(text):
